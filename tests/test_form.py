@@ -15,6 +15,9 @@ INTERFACE = {
                     "Call": ["value"], "Choose": ["value", "table"]},
     "programs": {"Contract": ["size", "rows", "free", "exactly"],
                  "Program": ["size", "names", "kept", "broken", "contract", "body", "results", "places", "changed"]},
+    "rivals": {"is_rival": None, "differing": None},
+    "derivations": {"derives": None},
+    "reading": {"is_enough": None, "must_read": None, "Reading": ["shows"]},
 }
 BUILTINS = """len range enumerate zip min max sum abs sorted reversed int str bool list tuple dict set isinstance
     ord repr any all divmod super property staticmethod classmethod ValueError TypeError KeyError IndexError
@@ -68,6 +71,30 @@ class FormTest(unittest.TestCase):
                         self.assertRegex(text, f"(?m)^(def |class )?{name.name}( =|[(:])")
                         self.assertIsNone(name.asname)
 
+    def test_no_two_files_import_from_each_other(self):
+        used = {path.stem: [node.module.split(".")[1] for node in ast.walk(tree(path))
+                            if isinstance(node, ast.ImportFrom)] for path in FILES}
+        known = []
+        while len(known) < len(used):
+            more = [file for file in used if file not in known and all(other in known for other in used[file])]
+            self.assertNotEqual(more, [])
+            known += more
+
+    def test_imports_are_used_and_are_no_local_names(self):
+        for path in FILES:
+            imported = [name.name for node in tree(path).body if isinstance(node, ast.ImportFrom)
+                        for name in node.names]
+            classes = [node.name for node in tree(path).body if isinstance(node, ast.ClassDef)]
+            read = [node.id for node in ast.walk(tree(path))
+                    if isinstance(node, ast.Name) and isinstance(node.ctx, ast.Load)]
+            bound = [node.id for node in ast.walk(tree(path))
+                     if isinstance(node, ast.Name) and isinstance(node.ctx, ast.Store)]
+            bound += [node.arg for node in ast.walk(tree(path)) if isinstance(node, ast.arg)]
+            for name in imported:
+                self.assertIn(name, read, path)
+            for name in imported + classes:
+                self.assertNotIn(name, bound, path)
+
     def test_module_level(self):
         allowed = (ast.Expr, ast.ImportFrom, ast.FunctionDef, ast.ClassDef, ast.Assign)
         for path in FILES:
@@ -101,12 +128,13 @@ class FormTest(unittest.TestCase):
             self.assertEqual(names.count(name), 1, name)
 
     def test_the_interface_stands_where_it_is_listed(self):
-        for file, classes in INTERFACE.items():
-            bodies = {node.name: node.body for node in tree(FOLDER / (file + ".py")).body
-                      if isinstance(node, ast.ClassDef)}
-            for name, methods in classes.items():
-                defined = [node.name for node in bodies[name] if isinstance(node, ast.FunctionDef)]
-                for method in methods:
+        for file, names in INTERFACE.items():
+            nodes = {node.name: node for node in tree(FOLDER / (file + ".py")).body
+                     if isinstance(node, (ast.ClassDef, ast.FunctionDef))}
+            for name, methods in names.items():
+                self.assertIsInstance(nodes[name], ast.FunctionDef if methods is None else ast.ClassDef, name)
+                defined = [node.name for node in nodes[name].body if isinstance(node, ast.FunctionDef)]
+                for method in methods or []:
                     self.assertEqual(defined.count(method), 1, (name, method))
 
 
