@@ -6,10 +6,15 @@ from mustread.programs import Program
 MOST_CASES = 2000
 
 
-def changed_program(program, change):
-    """Return the program after a change; it must keep its contracts before the change."""
+def check_program(program):
+    """Refuse what is not a program that keeps its contracts."""
     if not isinstance(program, Program) or not program.kept:
         raise BadProgram("not a program that keeps its contracts")
+
+
+def changed_program(program, change):
+    """Return the program after a change; it must keep its contracts before the change."""
+    check_program(program)
     return program.changed(change)
 
 

@@ -6,6 +6,7 @@ from itertools import combinations, product
 from mustread.errors import BadChange
 from mustread.expressions import Arg, Call, Choose, Const
 from mustread.programs import Contract, Program
+from mustread.reading import is_enough
 from mustread.rivals import differing
 
 
@@ -125,6 +126,58 @@ def correct(program, change, chosen, tree, assumed):
     return len(told) == len(trees) and all(
         [correct(program, change, chosen, part, {**assumed, (word, name, at): value})
          for value, part in zip(told, trees)])
+
+
+# Impact: the calls are recorded where the bodies look them up.
+
+class Recorder:
+    """Results of a function that note for which arguments they are read."""
+
+    def __init__(self, name, results, calls):
+        self.name, self.results, self.calls = name, results, calls
+
+    def __getitem__(self, argument):
+        self.calls.append((self.name, argument))
+        return self.results[argument]
+
+
+def trail(program, change, name, argument):
+    found = [(name, argument)]
+    new = with_bodies(program, change)
+    while name not in change:
+        calls = []
+        tables = {known: Recorder(known, program.results(known), calls) for known in program.names}
+        program.body(name).value(argument, tables)
+        for name, argument in calls:
+            if program.results(name)[argument] != new.results(name)[argument]:
+                break
+        found.append((name, argument))
+    return found
+
+
+def parts(program, change):
+    """The culprit and the harmless part."""
+    bad, good = [], []
+    for indices in sets_of([at for at, name in enumerate(program.names) if name in change]):
+        names = [program.names[at] for at in indices]
+        if with_bodies(program, {name: change[name] for name in names}).kept:
+            good.append((-len(names), indices, names))
+        else:
+            bad.append((len(names), indices, names))
+    whole = with_bodies(program, change).kept
+    return (None if whole else min(bad)[2]), min(good)[2]
+
+
+# Reviews: of all sets of the other unchanged functions, those that are enough with what has been read.
+
+def rest(program, change, seen):
+    names = unchanged(program, change)
+    found = []
+    for indices in sets_of([at for at, name in enumerate(program.names) if name in names and name not in seen]):
+        chosen = [program.names[at] for at in indices]
+        if is_enough(program, change, [name for name in names if name in seen or name in chosen]):
+            found.append((sum(len(list(program.body(name).nodes())) for name in chosen), indices, chosen))
+    return min(found)[2]
 
 
 # Samples: the same ones in each run, as each sample has its own seed.

@@ -25,6 +25,19 @@ NO_CHOICES = [None, 0, True, "", "a", "ag", {"a"}, {"a": 1}, ["g", "a"], ["a", "
               ("a", "g", "a"), Arg()]
 
 
+class Same:
+    """What says to be equal to everything is not a name for that."""
+
+    def __eq__(self, other):
+        return True
+
+    def __hash__(self):
+        return hash("f")
+
+
+NO_NAMES = [None, 0, 1, True, False, "", "x", "ab", "F", "f ", b"f", [], ["f"], ("f",), {"f": 1}, {"f"}, Arg(), FREE, Same()]
+
+
 class Case(unittest.TestCase):
     def refuses(self, error, make, *arguments):
         """The call raises just this error."""

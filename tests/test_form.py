@@ -18,10 +18,15 @@ INTERFACE = {
     "rivals": {"is_rival": None, "differing": None},
     "derivations": {"derives": None},
     "reading": {"is_enough": None, "must_read": None, "Reading": ["shows"]},
+    "impact": {"impact": None, "trail": None, "culprit": None, "harmless": None},
+    "reviews": {"Review": ["seen", "spent", "outcome", "rest", "read", "undo", "finish", "after"]},
+    "texts": {"expression_text": None, "program_text": None, "change_text": None, "read_expression": None,
+              "read_program": None, "read_change": None},
 }
 BUILTINS = """len range enumerate zip min max sum abs sorted reversed int str bool list tuple dict set isinstance
     ord repr any all divmod super property staticmethod classmethod ValueError TypeError KeyError IndexError
     NotImplementedError NotImplemented Exception iter next map""".split()
+LIBRARY = {"itertools": ["combinations", "product", "permutations"]}
 WHOLE = "any all sum min max sorted".split()
 BARRED = re.compile("\\b(typing|enum|namedtuple|abstractmethod|dataclass|overload|contextmanager|global|async)\\b")
 
@@ -63,7 +68,11 @@ class FormTest(unittest.TestCase):
         for path in FILES:
             for node in ast.walk(tree(path)):
                 self.assertNotIsInstance(node, ast.Import, path)
-                if isinstance(node, ast.ImportFrom):
+                if isinstance(node, ast.ImportFrom) and node.module in LIBRARY:
+                    for name in node.names:
+                        self.assertIn(name.name, LIBRARY[node.module])
+                        self.assertIsNone(name.asname)
+                elif isinstance(node, ast.ImportFrom):
                     self.assertEqual([node.level, node.module.split(".")[0]], [0, "mustread"])
                     source = FOLDER / (node.module.split(".")[1] + ".py")
                     text = source.read_text(encoding="utf-8")
@@ -73,7 +82,7 @@ class FormTest(unittest.TestCase):
 
     def test_no_two_files_import_from_each_other(self):
         used = {path.stem: [node.module.split(".")[1] for node in ast.walk(tree(path))
-                            if isinstance(node, ast.ImportFrom)] for path in FILES}
+                            if isinstance(node, ast.ImportFrom) and node.module not in LIBRARY] for path in FILES}
         known = []
         while len(known) < len(used):
             more = [file for file in used if file not in known and all(other in known for other in used[file])]
